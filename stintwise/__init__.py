@@ -1,0 +1,1 @@
+"""Stintwise: machines that run a while and rest a while."""

@@ -1,0 +1,89 @@
+"""What several tests need: things to hand in, and reckonings by the document's words alone."""
+
+import contextlib
+import functools
+import itertools
+import signal
+
+from stintwise.machines import Machine
+
+BIG = 10 ** 12
+
+NO_WHOLES = [True, False, None, "", "1", 1.0, 0.5, (), (1,), (1, 2), [], [1], {}, {1: 1}, set(), b"1", object()]
+
+
+def plain(up=1, down=1, begin=0, run=0, rest=0, least=0, pieces=()):
+    """A Machine of which a test names only what it is about."""
+    return Machine(up, down, begin, run, rest, least, list(pieces))
+
+
+def spans():
+    """Machines of short and long stints, short and long rests."""
+    return [plain(up, down) for up, down in [(1, 1), (1, 3), (2, 2), (3, 1), (4, 2), (2, 5), (12, 12)]]
+
+
+def states_of(machine, most=59):
+    """All states of the machine, with at most so many hours of rest due."""
+    return [(0, due) for due in range(most + 1)] + [(1, due) for due in range(machine.up)]
+
+
+def rows(hours):
+    """All rows of ones and noughts over so many hours, as Python orders lists."""
+    return [list(row) for row in itertools.product((0, 1), repeat=hours)]
+
+
+def keeps_stints(machine, state, run):
+    """Whether a run has no fault, by the lengths of its stints alone."""
+    on, due = state
+    lengths = [(way, len(list(hours))) for way, hours in itertools.groupby(run)]
+    gone_on = 0
+    if lengths and lengths[0][0] == on:
+        gone_on = lengths.pop(0)[1]
+    if gone_on < min(due, len(run)):
+        return False
+    return all(many >= (machine.up if way else machine.down) for way, many in lengths[:-1])
+
+
+def first_fault(machine, state, run):
+    """The last hour of the shortest beginning of the run that doesn't keep the stints, or None."""
+    for hour in range(len(run)):
+        if not keeps_stints(machine, state, run[:hour + 1]):
+            return hour
+    return None
+
+
+@functools.lru_cache(maxsize=None)
+def count_by_change(up, down, on, due, hours):
+    """How many runs there are, told apart by the hour of the first change."""
+    many = 1
+    for changed in range(due, hours):
+        next_due = (down if on else up) - 1
+        many += count_by_change(up, down, 1 - on, next_due, hours - changed - 1)
+    return many
+
+
+def slow_cost(machine, output):
+    """What an output costs, reckoned one by one."""
+    rates = [rate for amount, rate in machine.pieces for one in range(amount)]
+    if output < machine.least or output > machine.least + len(rates):
+        return None
+    return sum(rates[:output - machine.least])
+
+
+def slow_outputs(machine):
+    """All outputs that a small machine can make."""
+    return range(machine.least, machine.least + sum(amount for amount, rate in machine.pieces) + 1)
+
+
+@contextlib.contextmanager
+def soon(seconds=60):
+    """Fail what is done within where it takes longer than so many seconds."""
+    def too_late(number, frame):
+        raise AssertionError("no answer within %d seconds" % seconds)
+    former = signal.signal(signal.SIGALRM, too_late)
+    signal.alarm(seconds)
+    try:
+        yield
+    finally:
+        signal.alarm(0)
+        signal.signal(signal.SIGALRM, former)
