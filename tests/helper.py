@@ -75,6 +75,66 @@ def slow_outputs(machine):
     return range(machine.least, machine.least + sum(amount for amount, rate in machine.pieces) + 1)
 
 
+def slow_gain(machine, price):
+    """The gain of a small machine, of all outputs that it can make."""
+    return max(price * output - slow_cost(machine, output) for output in slow_outputs(machine))
+
+
+def good_runs(machine, state, hours):
+    """All runs without fault, as Python orders lists."""
+    return [run for run in rows(hours) if keeps_stints(machine, state, run)]
+
+
+def slow_run_worth(machine, state, prices, run):
+    """What a run is worth, hour by hour."""
+    worth = 0
+    for ahead, on, price in zip([state[0]] + run, run, prices):
+        if on and not ahead:
+            worth += machine.begin
+        worth += machine.run - slow_gain(machine, price) if on else machine.rest
+    return worth
+
+
+def least_by_change(machine, state, prices):
+    """The least worth and its first run, told apart by the hour of the next change; of many hours too."""
+    gains = [slow_gain(machine, price) for price in prices]
+
+    def stint(on, first, end):
+        return sum(machine.run - gains[hour] if on else machine.rest for hour in range(first, end))
+
+    @functools.lru_cache(maxsize=None)
+    def least(on, due, first):
+        found = [(stint(on, first, len(prices)), (on,) * (len(prices) - first))]
+        for changed in range(first + due, len(prices)):
+            # The hour of the change itself is the first one of those that are then due.
+            behind = least(1 - on, machine.down if on else machine.up, changed)
+            worth = stint(on, first, changed) + (0 if on else machine.begin) + behind[0]
+            found.append((worth, (on,) * (changed - first) + behind[1]))
+        return min(found)
+
+    worth, run = least(state[0], state[1], 0)
+    return worth, list(run)
+
+
+def slow_paths(store, level, hours):
+    """All paths without fault of a small store, as Python orders lists."""
+    found = []
+    for path in itertools.product(range(store.cap + 1), repeat=hours):
+        steps = [later - ahead for ahead, later in zip((level,) + path, path)]
+        if all(-store.out <= step <= store.into for step in steps):
+            found.append(list(path))
+    return found
+
+
+def slow_path_worth(store, level, prices, path):
+    """What a path is worth, level by level."""
+    worth = 0
+    for ahead, later, price in zip([level] + path, path, prices):
+        worth += sum(price * store.takes for rise in range(ahead, later))
+        worth -= sum(price * store.gives for fall in range(later, ahead))
+    return worth
+
+
 @contextlib.contextmanager
 def soon(seconds=60):
     """Fail what is done within where it takes longer than so many seconds."""
