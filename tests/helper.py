@@ -6,6 +6,8 @@ import itertools
 import signal
 
 from stintwise.machines import Machine
+from stintwise.stores import Store
+from stintwise.works import Works
 
 BIG = 10 ** 12
 
@@ -133,6 +135,92 @@ def slow_path_worth(store, level, prices, path):
         worth += sum(price * store.takes for rise in range(ahead, later))
         worth -= sum(price * store.gives for fall in range(later, ahead))
     return worth
+
+
+def small_works():
+    """Tuples (works, position): none, one and several machines, with a store and without, of the same machine twice."""
+    first = Machine(2, 3, 5, 1, 2, 4, [(3, 2), (2, 7)])
+    second = Machine(1, 1, 3, 2, 0, 0, [(2, 1), (1, 3)])
+    third = Machine(3, 2, 0, 7, 1, 1, [])
+    store = Store(3, 1, 2, 4, 3)
+    return [
+        (Works([], None, 9), ((), 0)),
+        (Works([], store, 9), ((), 2)),
+        (Works([first], None, 9), (((0, 0),), 0)),
+        (Works([first], store, 6), (((1, 1),), 3)),
+        (Works([second, first], store, 4), (((1, 0), (0, 2)), 0)),
+        (Works([third, third], Store(2, 2, 1, 0, 5), 0), (((0, 1), (1, 2)), 1)),
+        (Works([second, third, first], None, 8), (((0, 0), (1, 0), (0, 0)), 0)),
+        (Works([second] * 6, Store(8, 8, 8, 1, 1), 30), (((0, 0),) * 6, 4)),
+    ]
+
+
+def column(plan, at):
+    """The run of the machine of that place in a plan."""
+    return [ons[at] for ons, outputs, level in plan]
+
+
+def slow_level_fits(works, level, later):
+    """Whether an hour may bring the store from the one level to the other."""
+    if works.store is None:
+        return later == 0
+    return 0 <= later <= works.store.cap and -works.store.out <= later - level <= works.store.into
+
+
+def slow_plan_fault(works, position, wants, plan):
+    """The first fault of a plan, by the lengths of stints and by the bounds of outputs and levels."""
+    if len(plan) != len(wants):
+        return ("hours",)
+    level = position[1]
+    for hour, (ons, outputs, later) in enumerate(plan):
+        for at, machine in enumerate(works.machines):
+            if not keeps_stints(machine, position[0][at], column(plan, at)[:hour + 1]):
+                return ("run", hour, at)
+        for at, machine in enumerate(works.machines):
+            if outputs[at] not in (slow_outputs(machine) if ons[at] else [0]):
+                return ("output", hour, at)
+        if not slow_level_fits(works, level, later):
+            return ("level", hour)
+        level = later
+    return None
+
+
+def slow_ledger(works, position, wants, plan):
+    """The five costs of each hour, one by one."""
+    ledger = []
+    ahead, level = [state[0] for state in position[0]], position[1]
+    for want, (ons, outputs, later) in zip(wants, plan):
+        costs = [0, 0, 0, 0, 0]
+        there = sum(outputs)
+        for at, machine in enumerate(works.machines):
+            if ons[at]:
+                costs[0] += 0 if ahead[at] else machine.begin
+                costs[1] += machine.run
+                costs[3] += slow_cost(machine, outputs[at])
+            else:
+                costs[2] += machine.rest
+        if works.store is not None:
+            there -= slow_path_worth(works.store, level, [1], [later])
+        costs[4] = works.lack * (want - there) if want > there else 0
+        ledger.append(tuple(costs))
+        ahead, level = ons, later
+    return ledger
+
+
+def chance_plan(chance, works, position, hours):
+    """A plan without fault, by chance."""
+    plan = []
+    level = position[1]
+    for hour in range(hours):
+        ons = []
+        for at, machine in enumerate(works.machines):
+            run = column(plan, at)
+            ways = [on for on in (0, 1) if keeps_stints(machine, position[0][at], run + [on])]
+            ons.append(chance.choice(ways))
+        outputs = [chance.choice(slow_outputs(machine)) if on else 0 for machine, on in zip(works.machines, ons)]
+        level = chance.choice([later for later in range(9) if slow_level_fits(works, level, later)])
+        plan.append((tuple(ons), tuple(outputs), level))
+    return plan
 
 
 @contextlib.contextmanager

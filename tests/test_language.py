@@ -35,6 +35,9 @@ NOWHERE = re.compile(
 
 UNUSED = set("register mro elements open input version_info with_traceback add_note format format_map".split())
 
+WALKED = set("zip enumerate reversed range items keys values".split())
+WALKERS = set("list tuple dict sorted sum any all enumerate zip min max join".split())
+
 NAME = re.compile(r"[A-Za-z][A-Za-z0-9_]*\Z")
 DUNDERS = {"__init__", "__eq__", "__repr__", "__str__", "__len__"}
 
@@ -53,6 +56,11 @@ def walked(kind):
         for node in ast.walk(tree):
             if isinstance(node, kind):
                 yield node, "%s:%s" % (name, getattr(node, "lineno", 0))
+
+
+def called(call):
+    """The word by which something is called."""
+    return call.func.id if isinstance(call.func, ast.Name) else call.func.attr
 
 
 def bound_in(node):
@@ -154,6 +162,17 @@ class Language(unittest.TestCase):
                 if isinstance(node, ast.Name):
                     self.assertIn(node.id, known, name)
                     self.assertNotIn(node.id, UNUSED, name)
+
+    def test_walked_on_the_spot(self):
+        for name, tree in trees():
+            calls = [(node, called(node)) for node in ast.walk(tree) if isinstance(node, ast.Call)]
+            free = [node.iter for node in ast.walk(tree) if isinstance(node, (ast.For, ast.comprehension))]
+            for node, word in calls:
+                if word in WALKERS and (len(node.args) == 1 or word not in ("min", "max")):
+                    free.extend(node.args[:1])
+            for node, word in calls:
+                if word in WALKED:
+                    self.assertTrue(any(node is other for other in free), "%s:%d" % (name, node.lineno))
 
     def test_methods_and_values(self):
         methods, values = set(), set()
