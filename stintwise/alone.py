@@ -1,8 +1,8 @@
 """A machine alone, at given prices."""
 
 from stintwise.more4 import first_row, table_of, worths_by_hour
-from stintwise.runs import run_cost
-from stintwise.states import may_be, state_after, states_after
+from stintwise.runs import next_hours, run_cost
+from stintwise.states import states_by_hour
 
 
 def run_worth(machine, state, prices, run):
@@ -13,15 +13,12 @@ def run_worth(machine, state, prices, run):
 
 def hour_ways(machine, state, price):
     """The list of tuples (on, state behind, worth) of what the next hour may be."""
-    return [
-        (on, state_after(machine, state, on), run_worth(machine, state, [price], [on]))
-        for on in (0, 1) if may_be(machine, state, on)
-    ]
+    return [(on, later, cost - on * machine.gain(price)) for on, later, cost in next_hours(machine, state)]
 
 
 def worths_of_states(machine, state, prices):
     """For each hour and the end a dict of the states that there can be, each with its least worth."""
-    layers = [states_after(machine, state, hours) for hours in range(len(prices) + 1)]
+    layers = states_by_hour(machine, state, len(prices))
     return worths_by_hour(layers, lambda hour, place: hour_ways(machine, place, prices[hour]))
 
 

@@ -44,3 +44,11 @@ def run_cost(machine, state, run):
     """What the beginnings, the running and the resting of the run cost."""
     begins = len(run_begins(machine, state, run))
     return machine.begin * begins + machine.run * run.count(1) + machine.rest * run.count(0)
+
+
+def next_hours(machine, state):
+    """The list of tuples (on, state behind, cost) of what the next hour may be."""
+    return [
+        (on, state_after(machine, state, on), run_cost(machine, state, [on]))
+        for on in (0, 1) if may_be(machine, state, on)
+    ]

@@ -57,6 +57,16 @@ def states_after(machine, state, hours):
     return sorted(ways_after(machine, state, hours))
 
 
+def states_by_hour(machine, state, hours):
+    """The list of what states_after tells of 0, 1 .. hours, up to so many."""
+    ways = {state: 1}
+    layers = [[state]]
+    for hour in range(hours):
+        ways = ways_one_on(machine, ways)
+        layers.append(sorted(ways))
+    return layers
+
+
 def state_felled(machine, state, hours):
     """The state ahead of an hour when the machine falls then, for so many hours."""
     rest = machine.down if state[0] == 1 else state[1]

@@ -3,7 +3,7 @@
 from stintwise.errors import Wrong
 from stintwise.machines import Machine
 from stintwise.states import is_state, state_after
-from stintwise.stores import Store, drawn_by, levels_from
+from stintwise.stores import Store, drawn_by, levels_after
 from stintwise.wholes import is_amount, is_whole
 
 MOST_MACHINES = 6
@@ -49,9 +49,14 @@ def is_position(works, thing):
     return are_states(works, thing[0]) and is_level(works, thing[1])
 
 
+def later_levels(works, level, hours):
+    """The rising list of the levels that there can be behind so many hours, [0] where there is no store."""
+    return [0] if works.store is None else levels_after(works.store, level, hours)
+
+
 def next_levels(works, level):
     """The rising list of the levels that there can be behind an hour, [0] where there is no store."""
-    return [0] if works.store is None else levels_from(works.store, level)
+    return later_levels(works, level, 1)
 
 
 def drawn_in(works, level, later):

@@ -223,6 +223,128 @@ def chance_plan(chance, works, position, hours):
     return plan
 
 
+def slow_later(machine, state, on):
+    """The state behind an hour in which the machine runs or rests, or None where it may not, by the words alone."""
+    if state[0] == on:
+        return (on, state[1] - 1 if state[1] > 0 else 0)
+    if state[1] > 0:
+        return None
+    return (on, (machine.up if on else machine.down) - 1)
+
+
+def slow_positions(works, position, hours):
+    """The sets of the positions that can be reached behind 0, 1 .. hours, hour by hour."""
+    layers = [{position}]
+    for hour in range(hours):
+        found = set()
+        for states, level in layers[-1]:
+            ways = [[slow_later(machine, state, on) for on in (0, 1)] for machine, state in zip(works.machines, states)]
+            levels = [later for later in range(9) if slow_level_fits(works, level, later)]
+            for laters in itertools.product(*[[later for later in way if later is not None] for way in ways]):
+                found.update((laters, later) for later in levels)
+        layers.append(found)
+    return layers
+
+
+def all_rows(works, position, hours):
+    """All rows of tuples (ons, level) that plans without fault have, rising."""
+    found = [[]]
+    for hour in range(hours):
+        longer = []
+        for row in found:
+            level = row[-1][1] if row else position[1]
+            for ons in itertools.product((0, 1), repeat=len(works.machines)):
+                runs = [[way[0][at] for way in row] + [on] for at, on in enumerate(ons)]
+                if all(keeps_stints(*each) for each in zip(works.machines, position[0], runs)):
+                    longer.extend(row + [(ons, later)] for later in range(9) if slow_level_fits(works, level, later))
+        found = longer
+    return found
+
+
+def outputs_for(works, ons):
+    """All tuples of outputs that the machines can have where they run and rest so."""
+    choices = [slow_outputs(machine) if on else [0] for machine, on in zip(works.machines, ons)]
+    return list(itertools.product(*choices))
+
+
+def all_plans(works, position, hours):
+    """All plans without fault of small works over few hours."""
+    for row in all_rows(works, position, hours):
+        for made in itertools.product(*[outputs_for(works, ons) for ons, level in row]):
+            yield [(ons, outputs, level) for (ons, level), outputs in zip(row, made)]
+
+
+def slow_plan_cost(works, position, wants, plan):
+    """What a plan costs, one by one."""
+    return sum(sum(costs) for costs in slow_ledger(works, position, wants, plan))
+
+
+@functools.lru_cache(maxsize=None)
+def slow_hour_cost(works, ahead, level, want, ons, later):
+    """The least that an hour costs, of all outputs, where the machines ran and rested so in the hour ahead."""
+    position = (tuple((on, 0) for on in ahead), level)
+    return min(slow_plan_cost(works, position, [want], [(ons, outputs, later)]) for outputs in outputs_for(works, ons))
+
+
+def slow_row_cost(works, position, wants, row):
+    """The least that a row of ons and levels costs, of all outputs."""
+    ahead, level = tuple(state[0] for state in position[0]), position[1]
+    cost = 0
+    for want, (ons, later) in zip(wants, row):
+        cost += slow_hour_cost(works, ahead, level, want, ons, later)
+        ahead, level = ons, later
+    return cost
+
+
+def slow_cheapest(works, position, wants):
+    """The least cost of all plans over few hours, and the first row of ons and levels that comes to it."""
+    found = [(slow_row_cost(works, position, wants, row), row) for row in all_rows(works, position, len(wants))]
+    return min(found)
+
+
+def forward_least(works, position, wants):
+    """The least cost of all plans, gone from the first hour to the last; of many hours too."""
+    costs = {position: 0}
+    for want in wants:
+        later_costs = {}
+        for (states, level), cost in costs.items():
+            ahead = tuple(state[0] for state in states)
+            for ons in itertools.product((0, 1), repeat=len(states)):
+                laters = tuple(slow_later(*each) for each in zip(works.machines, states, ons))
+                if None in laters:
+                    continue
+                for later in range(9):
+                    if slow_level_fits(works, level, later):
+                        whole = cost + slow_hour_cost(works, ahead, level, want, ons, later)
+                        place = (laters, later)
+                        later_costs[place] = min(whole, later_costs.get(place, whole))
+        costs = later_costs
+    return min(costs.values())
+
+
+def chance_machine(chance):
+    """A small machine by chance."""
+    rates = sorted(chance.randrange(7) for piece in range(chance.randrange(3)))
+    pieces = [(chance.randrange(1, 3), rate) for rate in rates]
+    up, down = chance.choice([1, 1, 2, 3]), chance.choice([1, 1, 2, 3])
+    return Machine(up, down, chance.randrange(6), chance.randrange(4), chance.randrange(3), chance.randrange(3), pieces)
+
+
+def chance_works(chance, most=2):
+    """Small works by chance, of none to so many machines, with a store or without, and a position of them."""
+    machines = [chance_machine(chance) for machine in range(chance.randrange(most + 1))]
+    if machines and chance.randrange(4) == 0:
+        machines.append(machines[0])
+        machines = machines[-most:]
+    store = None
+    if chance.randrange(2):
+        store = Store(chance.randrange(3), chance.randrange(3), chance.randrange(3), chance.randrange(4),
+                      chance.randrange(4))
+    states = tuple(chance.choice(states_of(machine, 4)) for machine in machines)
+    level = chance.randrange(store.cap + 1) if store else 0
+    return Works(machines, store, chance.randrange(10)), (states, level)
+
+
 @contextlib.contextmanager
 def soon(seconds=60):
     """Fail what is done within where it takes longer than so many seconds."""
