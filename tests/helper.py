@@ -232,6 +232,14 @@ def slow_later(machine, state, on):
     return (on, (machine.up if on else machine.down) - 1)
 
 
+def slow_felled(works, position, at, hours):
+    """The position when the machine of that place falls, by the words alone."""
+    states = list(position[0])
+    on, due = states[at]
+    states[at] = (0, max(hours, works.machines[at].down if on else due))
+    return tuple(states), position[1]
+
+
 def slow_positions(works, position, hours):
     """The sets of the positions that can be reached behind 0, 1 .. hours, hour by hour."""
     layers = [{position}]
