@@ -353,6 +353,45 @@ def chance_works(chance, most=2):
     return Works(machines, store, chance.randrange(10)), (states, level)
 
 
+def slow_shows(place, hours, table, number, ways):
+    """Whether a table shows the number for the place, by the words alone; ways(hour, place): tuples (later, worth)."""
+    if len(table) != hours + 1:
+        return False
+    for entries in table:
+        for at, entry in enumerate(entries):
+            if any(entry[0] == other[0] for other in entries[:at]):
+                return False
+    if (place, number) not in table[0] or any(last > 0 for there, last in table[-1]):
+        return False
+    for hour in range(hours):
+        for there, told in table[hour]:
+            for later, worth in ways(hour, there):
+                if not any(later == other and told <= worth + rest for other, rest in table[hour + 1]):
+                    return False
+    return True
+
+
+def change_table(chance, table, number, places):
+    """Change something in the table; tells the number to ask with."""
+    entries = chance.choice(table)
+    way = chance.randrange(5)
+    if way == 0 and entries:
+        entries.pop(chance.randrange(len(entries)))
+    elif way == 1:
+        entries.append((chance.choice(places), chance.randrange(-40, 1)))
+    elif way == 2:
+        number -= 1
+        for one in table:
+            one[:] = [(place, worth - 1) for place, worth in one]
+    elif entries:
+        at = chance.randrange(len(entries))
+        more = chance.choice([-9, -2, -1, 1])
+        if entries is table[0]:
+            number += more
+        entries[at] = (entries[at][0], entries[at][1] + more)
+    return number
+
+
 @contextlib.contextmanager
 def soon(seconds=60):
     """Fail what is done within where it takes longer than so many seconds."""

@@ -174,6 +174,27 @@ class Language(unittest.TestCase):
                 if word in WALKED:
                     self.assertTrue(any(node is other for other in free), "%s:%d" % (name, node.lineno))
 
+    def test_classes_and_handlers(self):
+        classes = {node.name for node, place in walked(ast.ClassDef)}
+        for node, place in walked(ast.ExceptHandler):
+            self.assertIsInstance(node.type, ast.Name, place)
+            self.assertIn(node.type.id, classes | {"KeyError", "ZeroDivisionError"}, place)
+        for name, tree in trees():
+            free = [node.type for node in ast.walk(tree) if isinstance(node, ast.ExceptHandler)]
+            for node in ast.walk(tree):
+                if isinstance(node, ast.ClassDef):
+                    free.extend(node.bases)
+                if isinstance(node, ast.Call):
+                    free.append(node.func)
+                    if called(node) == "isinstance":
+                        free.append(node.args[1])
+                # A base's own __init__ is called through its class.
+                if isinstance(node, ast.Attribute) and node.attr == "__init__":
+                    free.append(node.value)
+            for node in ast.walk(tree):
+                if isinstance(node, ast.Name) and node.id in classes:
+                    self.assertTrue(any(node is other for other in free), "%s:%d" % (name, node.lineno))
+
     def test_methods_and_values(self):
         methods, values = set(), set()
         for node, place in walked(ast.ClassDef):

@@ -2,7 +2,7 @@ import copy
 import random
 import unittest
 
-from helper import BIG, slow_path_worth, slow_paths, soon
+from helper import BIG, change_table, slow_path_worth, slow_paths, slow_shows, soon
 from stintwise.paths import cheapest_path, path_fault, path_worth, path_worths, shows_path
 from stintwise.stores import Store, levels_after
 
@@ -167,22 +167,10 @@ class Tables(unittest.TestCase):
         self.assertIsInstance(told[1], list)
 
 
-def slow_shows(store, level, prices, table, number):
-    if len(table) != len(prices) + 1:
-        return False
-    for entries in table:
-        for at, entry in enumerate(entries):
-            if any(entry[0] == other[0] for other in entries[:at]):
-                return False
-    if (level, number) not in table[0] or any(last > 0 for place, last in table[-1]):
-        return False
-    for price, ahead, behind in zip(prices, table, table[1:]):
-        for place, told in ahead:
-            for later in range(max(place - store.out, 0), min(place + store.into, store.cap) + 1):
-                worth = slow_path_worth(store, place, [price], [later])
-                if not any(later == other and told <= worth + rest for other, rest in behind):
-                    return False
-    return True
+def slow_ways(store, level, price):
+    """What the next hour may be: tuples (level behind, worth)."""
+    for later in range(max(level - store.out, 0), min(level + store.into, store.cap) + 1):
+        yield later, slow_path_worth(store, level, [price], [later])
 
 
 class Papers(unittest.TestCase):
@@ -270,31 +258,12 @@ class Papers(unittest.TestCase):
                 table = path_worths(store, level, prices)
                 number = table[0][0][1]
                 for change in range(chance.randrange(1, 4)):
-                    number = self.changed(chance, store, table, number)
-                right = slow_shows(store, level, prices, table, number)
+                    number = change_table(chance, table, number, range(store.cap + 1))
+                right = slow_shows(level, len(prices), table, number,
+                                   lambda hour, place: slow_ways(store, place, prices[hour]))
                 self.assertIs(shows_path(store, level, prices, table, number), right)
                 told[right] += 1
         self.assertGreater(min(told.values()), 300)
-
-    def changed(self, chance, store, table, number):
-        """Change something in the table; tells the number to ask with."""
-        entries = chance.choice(table)
-        way = chance.randrange(5)
-        if way == 0 and entries:
-            entries.pop(chance.randrange(len(entries)))
-        elif way == 1:
-            entries.append((chance.randrange(store.cap + 1), chance.randrange(-40, 1)))
-        elif way == 2:
-            number -= 1
-            for one in table:
-                one[:] = [(place, worth - 1) for place, worth in one]
-        elif entries:
-            at = chance.randrange(len(entries))
-            more = chance.choice([-9, -2, -1, 1])
-            if entries == table[0]:
-                number += more
-            entries[at] = (entries[at][0], entries[at][1] + more)
-        return number
 
 
 class OwnLists(unittest.TestCase):

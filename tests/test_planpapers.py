@@ -3,8 +3,8 @@ import itertools
 import random
 import unittest
 
-from helper import (BIG, chance_works, plain, slow_cheapest, slow_hour_cost, slow_later, slow_level_fits, small_works,
-                    soon, states_of)
+from helper import (BIG, chance_works, change_table, plain, slow_cheapest, slow_hour_cost, slow_later, slow_level_fits,
+                    slow_shows, small_works, soon, states_of)
 from stintwise.errors import TooMany
 from stintwise.machines import Machine
 from stintwise.planpapers import shows_plan
@@ -30,21 +30,9 @@ def slow_ways(works, position, want):
                 yield (laters, later), slow_hour_cost(works, ahead, level, want, ons, later)
 
 
-def slow_shows(works, position, wants, table, number):
-    if len(table) != len(wants) + 1:
-        return False
-    for entries in table:
-        for at, entry in enumerate(entries):
-            if any(entry[0] == other[0] for other in entries[:at]):
-                return False
-    if (position, number) not in table[0] or any(last > 0 for place, last in table[-1]):
-        return False
-    for want, ahead, behind in zip(wants, table, table[1:]):
-        for place, told in ahead:
-            for later, cost in slow_ways(works, place, want):
-                if not any(later == other and told <= cost + rest for other, rest in behind):
-                    return False
-    return True
+def by_the_words(works, position, wants, table, number):
+    """Whether a table shows the number, by the words alone."""
+    return slow_shows(position, len(wants), table, number, lambda hour, place: slow_ways(works, place, wants[hour]))
 
 
 def all_positions(works, due=1):
@@ -203,7 +191,7 @@ class OneThingWrong(unittest.TestCase):
         self.assertIs(shows_plan(works, start, [4, 7], table, number), False)
         table[2].extend([((((0, 2),), 0), 0), ((((0, 2),), 1), 0)])
         self.assertIs(shows_plan(works, start, [4, 7], table, number),
-                      slow_shows(works, start, [4, 7], table, number))
+                      by_the_words(works, start, [4, 7], table, number))
 
 
 class AgainstTheWords(unittest.TestCase):
@@ -218,31 +206,11 @@ class AgainstTheWords(unittest.TestCase):
                 table = plan_worths(works, position, wants)
                 number = table[0][0][1]
                 for change in range(chance.randrange(1, 4)):
-                    number = self.changed(chance, works, table, number)
-                right = slow_shows(works, position, wants, table, number)
+                    number = change_table(chance, table, number, list(all_positions(works, 4)))
+                right = by_the_words(works, position, wants, table, number)
                 self.assertIs(shows_plan(works, position, wants, table, number), right)
                 told[right] += 1
         self.assertGreater(min(told.values()), 200)
-
-    def changed(self, chance, works, table, number):
-        """Change something in the table; tells the number to ask with."""
-        entries = chance.choice(table)
-        way = chance.randrange(6)
-        if way == 0 and entries:
-            entries.pop(chance.randrange(len(entries)))
-        elif way == 1:
-            entries.append((chance.choice(list(all_positions(works, 4))), chance.randrange(-40, 1)))
-        elif way == 2:
-            number -= 1
-            for one in table:
-                one[:] = [(place, worth - 1) for place, worth in one]
-        elif entries:
-            at = chance.randrange(len(entries))
-            more = chance.choice([-9, -2, -1, 1])
-            if entries is table[0]:
-                number += more
-            entries[at] = (entries[at][0], entries[at][1] + more)
-        return number
 
     def test_tables_of_all_positions(self):
         chance = random.Random(72)
@@ -256,7 +224,7 @@ class AgainstTheWords(unittest.TestCase):
                          for hour in range(3)]
                 for position, number in table[0]:
                     shown = shows_plan(works, position, wants, table, number)
-                    self.assertIs(shown, slow_shows(works, position, wants, table, number))
+                    self.assertIs(shown, by_the_words(works, position, wants, table, number))
                     if shown:
                         let_by += 1
                         self.assertLessEqual(number, slow_cheapest(works, position, wants)[0])

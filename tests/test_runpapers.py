@@ -2,7 +2,7 @@ import copy
 import random
 import unittest
 
-from helper import BIG, good_runs, plain, slow_gain, slow_run_worth, soon, states_of
+from helper import BIG, change_table, good_runs, plain, slow_gain, slow_run_worth, slow_shows, soon, states_of
 from stintwise.alone import cheapest_run, run_worths
 from stintwise.machines import Machine
 from stintwise.runpapers import shows_run
@@ -21,23 +21,6 @@ def slow_ways(machine, state, price):
     if on == 0 or due == 0:
         ways.append(((0, machine.down - 1) if on else (0, max(due - 1, 0)), machine.rest))
     return ways
-
-
-def slow_shows(machine, state, prices, table, number):
-    if len(table) != len(prices) + 1:
-        return False
-    for entries in table:
-        for at, entry in enumerate(entries):
-            if any(entry[0] == other[0] for other in entries[:at]):
-                return False
-    if (state, number) not in table[0] or any(last > 0 for place, last in table[-1]):
-        return False
-    for price, ahead, behind in zip(prices, table, table[1:]):
-        for place, told in ahead:
-            for later, worth in slow_ways(machine, place, price):
-                if not any(later == other and told <= worth + rest for other, rest in behind):
-                    return False
-    return True
 
 
 def asked():
@@ -209,31 +192,12 @@ class AgainstTheWords(unittest.TestCase):
                 table = run_worths(machine, state, prices)
                 number = table[0][0][1]
                 for change in range(chance.randrange(1, 4)):
-                    number = self.changed(chance, machine, table, number)
-                right = slow_shows(machine, state, prices, table, number)
+                    number = change_table(chance, table, number, states_of(machine, 8))
+                right = slow_shows(state, len(prices), table, number,
+                                   lambda hour, place: slow_ways(machine, place, prices[hour]))
                 self.assertIs(shows_run(machine, state, prices, table, number), right)
                 told[right] += 1
         self.assertGreater(min(told.values()), 300)
-
-    def changed(self, chance, machine, table, number):
-        """Change something in the table; tells the number to ask with."""
-        entries = chance.choice(table)
-        way = chance.randrange(5)
-        if way == 0 and entries:
-            entries.pop(chance.randrange(len(entries)))
-        elif way == 1:
-            entries.append((chance.choice(states_of(machine, 8)), chance.randrange(-40, 1)))
-        elif way == 2:
-            number -= 1
-            for one in table:
-                one[:] = [(place, worth - 1) for place, worth in one]
-        elif entries:
-            at = chance.randrange(len(entries))
-            more = chance.choice([-9, -2, -1, 1])
-            if entries == table[0]:
-                number += more
-            entries[at] = (entries[at][0], entries[at][1] + more)
-        return number
 
     def test_what_is_let_by_is_never_above_any_run(self):
         chance = random.Random(12)
